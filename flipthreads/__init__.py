@@ -1,0 +1,1 @@
+"""Closed threads among nails on a sheet, told by counts."""
