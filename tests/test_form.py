@@ -10,7 +10,8 @@ from flipthreads import errors, sheets, values
 
 PACKAGE = pathlib.Path(errors.__file__).parent
 BUILTINS = """len range enumerate zip min max sum abs sorted reversed int str bool list tuple dict set isinstance ord
-repr any all divmod iter next super property staticmethod classmethod NotImplemented Exception ValueError TypeError KeyError
+repr any all divmod iter next super property staticmethod classmethod NotImplemented Exception ValueError TypeError
+KeyError
 IndexError LookupError ZeroDivisionError""".split()
 BARRED_WORDS = """type typing typing_extensions enum Enum IntEnum StrEnum Flag IntFlag Generic Protocol ABC ABCMeta
 namedtuple NamedTuple TypedDict TYPE_CHECKING abstractmethod""".split()
@@ -63,7 +64,8 @@ class Interface(unittest.TestCase):
         signatures = {
             sheets.Sheet: "(triangles, *, order=())", sheets.Sheet.drum: "(nails)",
             sheets.Sheet.triangle: "(self, line)", sheets.Sheet.ends: "(self, line)",
-            sheets.Sheet.turns: "(self, line)", sheets.Sheet.sides: "(self, line)", sheets.Sheet.can_flip: "(self, line)",
+            sheets.Sheet.turns: "(self, line)", sheets.Sheet.sides: "(self, line)",
+            sheets.Sheet.can_flip: "(self, line)",
             sheets.Sheet.flipped: "(self, *flips)", sheets.Sheet.renamed: "(self, renaming)",
             values.is_name: "(value)", values.least_turn: "(items)", values.same_round: "(one, other)",
         }
