@@ -1,6 +1,8 @@
-"""Sheets and wrong values that several tests use."""
+"""Sheets, weaves and wrong values that several tests use."""
 
+from flipthreads.loops import loop, ring
 from flipthreads.sheets import Sheet
+from flipthreads.weaves import Weave
 
 # Four triangles that make a ball of their own: with it and HOLED the counts of [3] are right in two pieces.
 SMALL_BALL = [(1, 2, 3), (-1, 4, -5), (-2, 5, -6), (-3, 6, -4)]
@@ -52,3 +54,105 @@ def wander(sheet, steps, seed):
 
 def many_sheets():
     return [sheet for at, drum in enumerate(drums()) for sheet in wander(drum, 25, at + 1)]
+
+
+# Values that are no signed line of the drum with 5 nails.
+NO_LINES = NO_NUMBERS + [0, 10, -10, 24, 10 ** 29, -10 ** 29]
+
+# The counts of two single threads on the drum with 5 nails: they add up to 5000, and to one more.
+FULL_THREAD = [2, 835, 829, 831, 833, 2, 833, 831, 4]
+GREAT_THREAD = [3, 830, 835, 831, 834, 4, 832, 829, 3]
+
+
+def renamings(sheet):
+    """Some renamings of a sheet: mixed lines, lines in other directions, names that stay."""
+    lines = sheet.lines
+    mixed = [[((k * 5 + step) % lines + 1) * (-1 if (k * step) % 3 == 1 else 1) for k in range(lines)]
+             for step in range(6)]
+    made = mixed + [list(range(1, lines + 1)), list(range(-lines, 0)), [-x for x in range(1, lines + 1)]]
+    return [row for row in made if sorted(map(abs, row)) == list(range(1, lines + 1))]
+
+
+def wrong_renamings():
+    """Values that are no renaming of the drum with 5 nails."""
+    row = [1, 2, 3, 4, 5, 6, 7, 8, 9]
+    return NO_LISTS + [
+        [], (), row[:8], row + [10], row + [1], row[1:] + [10], row[1:] + [0], row[1:] + [2], row[1:] + [-2],
+        row[1:] + [None], row[1:] + ["1"], row[1:] + [True], [True] + row[1:], row[1:] + [[1]], row[1:] + [(1,)],
+        [row], (row,), [1] * 9, [0] * 9, [-9] * 9, row[1:] + [10 ** 29], [str(x) for x in row], deep(1, 10),
+        [None] * 9, [[]] * 9, row * 2, [1] * 400,
+    ]
+
+
+def loopable(sheet):
+    """The lines of a sheet whose ends are at two nails."""
+    return [x for x in range(1, sheet.lines + 1) if sheet.ends(x)[0] != sheet.ends(x)[1]]
+
+
+def carried(weave, steps, seed):
+    """The weaves behind many flips, which a fixed rule chooses."""
+    met = []
+    for _ in range(steps):
+        seed = (seed * 1103515245 + 12345) % 2 ** 31
+        choices = [x for x in signed(weave.sheet) if weave.sheet.can_flip(x)]
+        weave = weave.flipped(choices[(seed >> 8) % len(choices)])
+        met.append(weave)
+    return met
+
+
+def half_turned(weave, times):
+    """A weave on the drum with 5 nails behind some half turns of line 1; the flips and names are those of [23]."""
+    for _ in range(times):
+        behind = weave.flipped(4, 8, 3, 2).renamed([-1, 5, -7, -3, 4, 6, 8, 2, 9])
+        weave = Weave(weave.sheet, behind.counts())
+    return weave
+
+
+def braided(weave, times):
+    """A weave on the drum with 5 nails behind half turns, two for each line of the rim: its counts grow fast."""
+    for _ in range(times):
+        turned = half_turned(weave, 2).renamed([2, 3, 1, 5, 6, 4, 8, 9, 7])
+        weave = Weave(weave.sheet, turned.counts())
+    return weave
+
+
+def some_threads():
+    """Single threads on many sheets: rings, loops, and loops that flips have carried along."""
+    made = []
+    for sheet in many_sheets()[::6] + [looped()]:
+        made += [ring(sheet, nail) for nail in range(sheet.nails)]
+        made += [loop(sheet, line) for line in loopable(sheet)]
+    for at, sheet in enumerate(drums()):
+        made += carried(loop(sheet, at + 1), 30, at + 11)[::3]
+    return made + [braided(loop(Sheet.drum(5), 1), times) for times in range(1, 6)]
+
+
+def some_weaves():
+    """Weaves on many sheets: single threads, multiples, and sums of threads that may and may not be laid apart."""
+    made = some_threads()[::2] + [Weave.empty(sheet) for sheet in drums()]
+    for at, sheet in enumerate(many_sheets()[::6] + [looped()]):
+        lines = loopable(sheet)
+        one, other = loop(sheet, lines[at % len(lines)]), loop(sheet, lines[(at * 3 + 1) % len(lines)])
+        around = ring(sheet, at % sheet.nails)
+        made += [one + other, one * 2 + other * 3, one * 3 + around * 2, one + other + around, around * 4]
+        made += carried(one * 2 + other, 6, at)[::2]
+    one, other = braided(loop(Sheet.drum(5), 4), 4), loop(Sheet.drum(5), 1)
+    return made + [one, one * 2, one + other, one * 3 + other * 2 + ring(Sheet.drum(5), 2)]
+
+
+def plain_threads(weave):
+    """The counts of the threads of a weave, ascending, by joining the crossings at the ends of all arcs."""
+    counts = [0] + weave.counts()
+    place = {(x, p): (x, p) if x > 0 else (-x, counts[-x] - 1 - p)
+             for x in signed(weave.sheet) for p in range(counts[abs(x)])}
+    group = {crossing: [crossing] for crossing in place.values()}
+    for x, y, z in [turn for t in weave.sheet.triangles() for turn in (t, t[1:] + t[:1], t[2:] + t[:2])]:
+        for p in range((counts[abs(x)] + counts[abs(z)] - counts[abs(y)]) // 2):
+            one, other = group[place[x, p]], group[place[-z, p]]
+            if one is not other:
+                one += other
+                for crossing in other:
+                    group[crossing] = one
+    found = {id(row): row for row in group.values()}
+    return sorted([sum(x == line for x, _ in row) for line in range(1, weave.sheet.lines + 1)]
+                  for row in found.values())

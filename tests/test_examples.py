@@ -2,7 +2,12 @@
 
 import unittest
 
+from flipthreads.errors import Misfit
+from flipthreads.loops import loop, ring
 from flipthreads.sheets import Sheet
+from flipthreads.splits import split
+from flipthreads.walks import word
+from flipthreads.weaves import Weave
 
 
 class Examples(unittest.TestCase):
@@ -22,6 +27,34 @@ class Examples(unittest.TestCase):
 
     def test_the_repr_of_a_sheet(self):
         self.assertEqual(repr(Sheet.drum(5)), "Sheet(5 nails, 9 lines)")
+
+    def test_counts_that_do_not_fit(self):
+        sheet = Sheet.drum(5)
+        with self.assertRaises(Misfit) as caught:
+            Weave(sheet, [1, 0, 0, 0, 0, 0, 0, 0, 0])
+        self.assertEqual(caught.exception.at, 2)
+
+    def test_a_ring_and_a_loop(self):
+        sheet = Sheet.drum(5)
+        found = [ring(sheet, 0).counts(), loop(sheet, 1).counts()]
+        self.assertEqual(found, [[1, 0, 1, 1, 0, 0, 1, 0, 0], [0, 1, 1, 1, 1, 0, 1, 1, 0]])
+
+    def test_a_flip_of_a_weave(self):
+        sheet = Sheet.drum(5)
+        self.assertEqual(loop(sheet, 1).flipped(1).counts(), [2, 1, 1, 1, 1, 0, 1, 1, 0])
+
+    def test_a_split(self):
+        sheet = Sheet.drum(5)
+        pairs = split(loop(sheet, 1) + loop(sheet, 2))
+        found = [(thread.counts(), times) for thread, times in pairs]
+        self.assertEqual(found, [([0, 0, 2, 1, 1, 1, 1, 1, 1], 1), ([1, 1, 0, 0, 1, 0, 0, 1, 0], 1)])
+
+    def test_a_word(self):
+        sheet = Sheet.drum(5)
+        self.assertEqual(word(loop(sheet, 1)), (-8, -7, 3, -4, -5, -2))
+
+    def test_the_repr_of_a_weave(self):
+        self.assertEqual(repr(loop(Sheet.drum(5), 1) * 2), "Weave(12 crossings)")
 
 
 if __name__ == "__main__":

@@ -2,7 +2,7 @@ import unittest
 
 from flipthreads.errors import InvalidLine, InvalidRenaming, ThreadError, Unflippable
 from flipthreads.sheets import Sheet
-from samples import NO_LISTS, NO_NUMBERS, deep, drums, looped, many_sheets, signed
+from samples import NO_LINES, drums, looped, many_sheets, renamings, signed, wrong_renamings
 
 
 def plain_flip(sheet, flip):
@@ -157,7 +157,7 @@ class RefusedFlips(unittest.TestCase):
         self.assert_unflippable(0, looped(), 3, 0)
 
     def test_wrong_flips(self):
-        for flip in NO_NUMBERS + [0, 10, -10, 10 ** 29]:
+        for flip in NO_LINES:
             for flips in ([flip], [1, flip], [1, -1, flip, 0], [flip, 99], [4, flip, 5]):
                 with self.subTest(flips=flips):
                     with self.assertRaises(InvalidLine) as caught:
@@ -181,18 +181,9 @@ class RefusedFlips(unittest.TestCase):
 
 
 class Renamings(unittest.TestCase):
-    def plain_renaming(self, sheet, step):
-        lines = sheet.lines
-        return [((k * 5 + step) % lines + 1) * (-1 if (k * step) % 3 == 1 else 1) for k in range(lines)]
-
-    def renamings(self, sheet):
-        made = [self.plain_renaming(sheet, step) for step in range(6)]
-        made += [list(range(1, sheet.lines + 1)), list(range(-sheet.lines, 0)), [-x for x in range(1, sheet.lines + 1)]]
-        return [row for row in made if sorted(map(abs, row)) == list(range(1, sheet.lines + 1))]
-
     def test_lines_are_called_as_the_items_say(self):
         for sheet in drums() + [looped()]:
-            for renaming in self.renamings(sheet):
+            for renaming in renamings(sheet):
                 behind = sheet.renamed(renaming)
                 for x in range(1, sheet.lines + 1):
                     name = renaming[x - 1]
@@ -217,21 +208,14 @@ class Renamings(unittest.TestCase):
 
     def test_a_renaming_can_be_taken_back(self):
         for sheet in drums() + [looped()]:
-            for renaming in self.renamings(sheet):
+            for renaming in renamings(sheet):
                 back = [0] * sheet.lines
                 for at, name in enumerate(renaming):
                     back[abs(name) - 1] = at + 1 if name > 0 else -at - 1
                 self.assertEqual(sheet.renamed(renaming).renamed(back), sheet)
 
     def test_wrong_renamings(self):
-        row = [1, 2, 3, 4, 5, 6, 7, 8, 9]
-        wrong = NO_LISTS + [
-            [], (), row[:8], row + [10], row + [1], row[1:] + [10], row[1:] + [0], row[1:] + [2], row[1:] + [-2],
-            row[1:] + [None], row[1:] + ["1"], row[1:] + [True], [True] + row[1:], row[1:] + [[1]], row[1:] + [(1,)],
-            [row], (row,), [1] * 9, [0] * 9, [-9] * 9, row[1:] + [10 ** 29], [str(x) for x in row], deep(1, 10),
-            [None] * 9, [[]] * 9, row * 2, [1] * 400,
-        ]
-        for renaming in wrong:
+        for renaming in wrong_renamings():
             with self.subTest(renaming=renaming):
                 with self.assertRaises(InvalidRenaming) as caught:
                     Sheet.drum(5).renamed(renaming)

@@ -1,12 +1,13 @@
 """The interface stands where the document lists it, and the files keep the plainest rules of the language subset."""
 
 import ast
+import builtins
 import inspect
 import pathlib
 import re
 import unittest
 
-from flipthreads import errors, sheets, values
+from flipthreads import errors, loops, sheets, splits, values, walks, weaves
 
 PACKAGE = pathlib.Path(errors.__file__).parent
 BUILTINS = """len range enumerate zip min max sum abs sorted reversed int str bool list tuple dict set isinstance ord
@@ -20,6 +21,15 @@ UNUSED = "register mro elements open input law version_info with_traceback add_n
 SPECIAL = "__init__ __eq__ __repr__ __len__ __call__ __add__ __mul__ __rmul__ __bool__ __contains__".split()
 SHEET_METHODS = """drum nails lines is_plain triangles order triangle ends turns sides can_flip flipped renamed
 __init__ __eq__ __repr__""".split()
+WEAVE_METHODS = """empty sheet total counts crossings arcs flipped renamed within
+__init__ __add__ __mul__ __rmul__ __eq__ __bool__ __repr__""".split()
+FUNCTIONS = {
+    values: ["is_name", "least_turn", "same_round"], loops: ["ring", "loop"], walks: ["walk", "word"],
+    splits: ["split", "threads", "is_thread"],
+}
+BUILTIN_METHODS = """append clear copy count endswith extend find get index insert isalnum isalpha isdigit islower
+isspace isupper items join keys ljust lower lstrip partition pop remove replace reverse rfind rjust rpartition rsplit
+rstrip setdefault split splitlines startswith strip update upper values zfill bit_length""".split()
 
 
 def files():
@@ -42,10 +52,36 @@ def bound_names(tree):
             yield node.attr
 
 
+def top_names(tree):
+    """The names that a file binds at module level, those of its imports included."""
+    for node in tree.body:
+        if isinstance(node, (ast.FunctionDef, ast.ClassDef)):
+            yield node.name
+        elif isinstance(node, ast.Assign):
+            yield from [target.id for target in node.targets]
+        elif isinstance(node, ast.ImportFrom):
+            yield from [alias.asname or alias.name for alias in node.names]
+
+
+def own_methods():
+    return [row for _, tree in trees() for node in ast.walk(tree) if isinstance(node, ast.ClassDef)
+            for row in node.body if isinstance(row, ast.FunctionDef)]
+
+
+def functions(tree):
+    return [node for node in ast.walk(tree) if isinstance(node, ast.FunctionDef)]
+
+
+def generator_names():
+    return [node.name for _, tree in trees() for node in functions(tree)
+            if any(isinstance(inner, (ast.Yield, ast.YieldFrom)) for inner in ast.walk(node))]
+
+
 class Interface(unittest.TestCase):
     def test_functions_stand_in_their_files(self):
-        for name in ("is_name", "least_turn", "same_round"):
-            self.assertEqual(getattr(values, name).__module__, "flipthreads.values")
+        for module, names in FUNCTIONS.items():
+            for name in names:
+                self.assertEqual(getattr(module, name).__module__, module.__name__)
 
     def test_errors_stand_in_their_file(self):
         found = [name for name, value in vars(errors).items() if inspect.isclass(value)]
@@ -59,6 +95,12 @@ class Interface(unittest.TestCase):
         for name in ("nails", "lines", "is_plain"):
             self.assertIsInstance(vars(sheets.Sheet)[name], property)
         self.assertIsInstance(vars(sheets.Sheet)["drum"], staticmethod)
+        self.assertEqual(weaves.Weave.__module__, "flipthreads.weaves")
+        for name in WEAVE_METHODS:
+            self.assertIn(name, vars(weaves.Weave))
+        for name in ("sheet", "total"):
+            self.assertIsInstance(vars(weaves.Weave)[name], property)
+        self.assertIsInstance(vars(weaves.Weave)["empty"], staticmethod)
 
     def test_parameters(self):
         signatures = {
@@ -68,6 +110,12 @@ class Interface(unittest.TestCase):
             sheets.Sheet.can_flip: "(self, line)",
             sheets.Sheet.flipped: "(self, *flips)", sheets.Sheet.renamed: "(self, renaming)",
             values.is_name: "(value)", values.least_turn: "(items)", values.same_round: "(one, other)",
+            weaves.Weave: "(sheet, counts)", weaves.Weave.empty: "(sheet)", weaves.Weave.counts: "(self)",
+            weaves.Weave.crossings: "(self, line)", weaves.Weave.arcs: "(self, line)",
+            weaves.Weave.flipped: "(self, *flips)", weaves.Weave.renamed: "(self, renaming)",
+            weaves.Weave.within: "(self, other)", loops.ring: "(sheet, nail)", loops.loop: "(sheet, line)",
+            walks.walk: "(weave, line, at)", walks.word: "(thread)",
+            splits.split: "(weave)", splits.threads: "(weave)", splits.is_thread: "(weave)",
         }
         for function, expected in signatures.items():
             self.assertEqual(str(inspect.signature(function)), expected)
@@ -140,6 +188,79 @@ class Form(unittest.TestCase):
                 if isinstance(node, ast.Attribute) and isinstance(node.ctx, ast.Store):
                     attributes.add(node.attr)
         self.assertEqual(methods & attributes, set())
+
+    def test_each_name_has_one_meaning_in_its_file(self):
+        for file, tree in trees():
+            top = list(top_names(tree))
+            self.assertEqual(len(set(top)), len(top), file)
+            taken = {node.name for node in tree.body if isinstance(node, ast.ClassDef)}
+            taken |= {alias.name for node in tree.body if isinstance(node, ast.ImportFrom) for alias in node.names}
+            nodes = list(ast.walk(tree))
+            inner = {node.arg for node in nodes if isinstance(node, ast.arg)}
+            inner |= {node.id for node in nodes if isinstance(node, ast.Name) and isinstance(node.ctx, ast.Store)}
+            self.assertEqual(inner & taken, set(), file)
+            self.assertEqual((inner | set(top)) & set(dir(builtins)), set(), file)
+
+    def test_imports_name_the_file_that_defines_and_do_not_lead_round(self):
+        found = {f"flipthreads.{file[:-3]}": tree for file, tree in trees()}
+        needs = {}
+        for module, tree in found.items():
+            rows = [node for node in tree.body if isinstance(node, ast.ImportFrom)]
+            needs[module] = {row.module for row in rows}
+            for row in rows:
+                imported = {alias.name for node in found[row.module].body if isinstance(node, ast.ImportFrom)
+                            for alias in node.names}
+                defined = set(top_names(found[row.module])) - imported
+                self.assertLessEqual({alias.name for alias in row.names}, defined, module)
+                self.assertEqual([alias.asname for alias in row.names if alias.asname], [], module)
+        while needs:
+            free = {module for module in needs if not needs[module] & set(needs)}
+            self.assertTrue(free, needs)
+            needs = {module: needs[module] for module in needs if module not in free}
+
+    def test_methods_that_are_called(self):
+        own = {row.name for row in own_methods()} | set(BUILTIN_METHODS)
+        for file, tree in trees():
+            for node in ast.walk(tree):
+                if isinstance(node, ast.Call) and isinstance(node.func, ast.Attribute):
+                    self.assertIn(node.func.attr, own, file)
+
+    def test_operators_have_plain_parameters(self):
+        for row in own_methods():
+            if row.name in ("__add__", "__mul__", "__rmul__", "__eq__"):
+                self.assertEqual(ast.unparse(row.args), "self, other")
+            elif row.name in ("__bool__", "__repr__", "__len__"):
+                self.assertEqual(ast.unparse(row.args), "self")
+            if row.name.startswith("__") and row.name != "__init__":
+                self.assertIsInstance(row.body[-1], ast.Return)
+                self.assertEqual(row.decorator_list, [])
+
+    def test_no_other_function_has_the_name_of_a_generator(self):
+        names = [node.name for _, tree in trees() for node in functions(tree)]
+        self.assertIn("walk", generator_names())
+        for name in generator_names():
+            self.assertEqual(names.count(name), 1, name)
+            self.assertNotIn(name, BUILTIN_METHODS)
+
+    def test_generators_are_iterated_at_once(self):
+        generators = set(generator_names())
+        for file, tree in trees():
+            iterated = [node.iter for node in ast.walk(tree) if isinstance(node, (ast.For, ast.comprehension))]
+            iterated += [node.args[0] for node in ast.walk(tree) if isinstance(node, ast.Call) and node.args
+                         and isinstance(node.func, ast.Name) and node.func.id in ("list", "tuple")]
+            calls = [node for node in iterated if isinstance(node, ast.Call)]
+            called = [node.func for node in calls if isinstance(node.func, ast.Name) and node.func.id in generators]
+            for node in ast.walk(tree):
+                if isinstance(node, ast.Name) and node.id in generators:
+                    self.assertIn(node, called, (file, node.lineno))
+
+    def test_no_sort_and_plain_use_of_is(self):
+        for file, tree in trees():
+            for node in ast.walk(tree):
+                self.assertNotEqual(getattr(node, "attr", None), "sort", file)
+                if isinstance(node, ast.Compare) and any(isinstance(op, (ast.Is, ast.IsNot)) for op in node.ops):
+                    beside = {getattr(side, "value", "no constant") for side in node.comparators}
+                    self.assertLessEqual(beside, {None, True, False}, file)
 
 
 if __name__ == "__main__":

@@ -2,7 +2,9 @@ import unittest
 
 from flipthreads.errors import InvalidLine, InvalidOrder, InvalidSheet, InvalidSize, InvalidTriangle
 from flipthreads.sheets import Sheet
-from samples import HOLED, NO_LISTS, NO_NUMBERS, ONE_HOLE, SMALL_BALL, deep, drums, looped, many_sheets, signed
+from samples import (
+    HOLED, NO_LINES, NO_LISTS, NO_NUMBERS, ONE_HOLE, SMALL_BALL, deep, drums, looped, many_sheets, signed,
+)
 
 DRUM = [(1, 5, -4), (-1, 7, -8), (2, 6, -5), (-2, 8, -9), (3, 4, -6), (-3, 9, -7)]
 
@@ -309,7 +311,7 @@ class Asking(SheetCase):
     def test_wrong_lines(self):
         sheet, big = Sheet.drum(5), Sheet.drum(10)
         asks = [sheet.triangle, sheet.ends, sheet.turns, sheet.sides, sheet.can_flip]
-        for line in NO_NUMBERS + [0, 10, -10, 24, 10 ** 29, -10 ** 29]:
+        for line in NO_LINES:
             for ask in asks:
                 with self.subTest(line=line, ask=ask.__name__):
                     with self.assertRaises(InvalidLine) as caught:
