@@ -7,8 +7,7 @@ from flipthreads.weaves import Weave
 
 def ring(sheet, nail):
     """Return the thread around a nail."""
-    if not is_number(nail) or nail < 0 or nail >= sheet.nails:
-        raise InvalidNail(nail)
+    check_nail(sheet, nail)
     return Weave(sheet, ends_at(sheet, nail))
 
 
@@ -20,6 +19,12 @@ def loop(sheet, line):
     counts = [one + other for one, other in zip(ends_at(sheet, begin), ends_at(sheet, end))]
     counts[abs(line) - 1] = 0
     return Weave(sheet, counts)
+
+
+def check_nail(sheet, nail):
+    """Raise InvalidNail unless the value is the number of a nail."""
+    if not is_number(nail) or nail < 0 or nail >= sheet.nails:
+        raise InvalidNail(nail)
 
 
 def ends_at(sheet, nail):

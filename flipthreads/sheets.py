@@ -228,9 +228,14 @@ def read_order(order, nails):
     return tuple(order)
 
 
+def is_line(faces, value):
+    """Tell whether any value is a signed line."""
+    return is_number(value) and value in faces
+
+
 def check_line(faces, line):
     """Raise InvalidLine unless the value is a signed line."""
-    if not is_number(line) or line not in faces:
+    if not is_line(faces, line):
         raise InvalidLine(line)
 
 

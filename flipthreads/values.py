@@ -14,6 +14,15 @@ def is_row(value):
     return isinstance(value, (list, tuple))
 
 
+def copied(value):
+    """Return any value with new lists in the place of its lists."""
+    if isinstance(value, list):
+        return [copied(item) for item in value]
+    if isinstance(value, tuple):
+        return tuple([copied(item) for item in value])
+    return value
+
+
 def is_name(value):
     """Tell whether any value is a name."""
     if not isinstance(value, str) or value == "" or len(value) > MOST_LETTERS:

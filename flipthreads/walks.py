@@ -10,12 +10,8 @@ def walk(weave, line, at):
     """Yield the pairs (signed line, crossing) over which a thread comes into triangles, once around."""
     check_position(weave, line, at)
     check_total(weave)
-    here = (line, at)
-    going = True
-    while going:
+    for here in once_around(weave, (line, at)):
         yield here
-        here = step(weave, here)
-        going = here != (line, at)
 
 
 def word(thread):
@@ -50,13 +46,23 @@ def step(weave, here):
     return (-y, p + weave.crossings(y) - weave.crossings(x))
 
 
+def once_around(weave, begin):
+    """Return the list of the pairs of a walk, begun with a given one."""
+    met = [begin]
+    here = step(weave, begin)
+    while here != begin:
+        met.append(here)
+        here = step(weave, here)
+    return met
+
+
 def full_round(weave):
-    """Return the signed lines of a walk over all crossings of a weave.
+    """Return the signed lines of a walk over all crossings of a weave, however many there are.
 
     The list is empty unless the weave has one thread alone: otherwise any walk leaves crossings out.
     """
     for first, many in enumerate(weave.counts(), start=1):
         if many > 0:
-            lines = [line for line, at in walk(weave, first, 0)]
+            lines = [line for line, at in once_around(weave, (first, 0))]
             return lines if len(lines) == weave.total else []
     return []

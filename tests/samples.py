@@ -2,6 +2,7 @@
 
 from flipthreads.loops import loop, ring
 from flipthreads.sheets import Sheet
+from flipthreads.walks import word
 from flipthreads.weaves import Weave
 
 # Four triangles that make a ball of their own: with it and HOLED the counts of [3] are right in two pieces.
@@ -156,3 +157,44 @@ def plain_threads(weave):
     found = {id(row): row for row in group.values()}
     return sorted([sum(x == line for x, _ in row) for line in range(1, weave.sheet.lines + 1)]
                   for row in found.values())
+
+
+def detours(sheet, path, seed):
+    """A path with detours: at some places one walks over a line and turns back, at one place twice."""
+    made = []
+    for at, x in enumerate(path):
+        made.append(x)
+        seed = (seed * 1103515245 + 12345) % 2 ** 31
+        if seed % 3 > 0:
+            y = -sheet.triangle(x)[(seed >> 8) % 3]
+            z = -sheet.triangle(y)[(seed >> 12) % 3]
+            made += [y, -y] if seed % 3 == 1 else [y, z, -z, -y]
+    return made
+
+
+def turned(row, start):
+    return list(row[start:]) + list(row[:start])
+
+
+def backwards(row):
+    return [-x for x in reversed(row)]
+
+
+def plain_tight(path):
+    """The tight path, by removing the last pair that can be removed, one after the other."""
+    left = list(path)
+    at = len(left) - 1
+    while at >= 0:
+        if len(left) > 1 and left[at] == -left[at - 1]:
+            left = left[:at - 1] + left[at + 1:] if at > 0 else left[1:-1]
+            at = len(left)
+        at -= 1
+    return min([tuple(turned(left, start)) for start in range(len(left))], default=())
+
+
+def joined_words(one, other):
+    """The paths along two threads, one after the other, which meet in a triangle; in both directions of the other."""
+    return [turned(a, i) + turned(b, k)
+            for a in (list(word(one)),) for b in (list(word(other)), backwards(word(other)))
+            for i in range(len(a)) for k in range(len(b))
+            if set(one.sheet.triangle(a[i - 1])) == set(one.sheet.triangle(b[k - 1]))]

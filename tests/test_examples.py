@@ -2,9 +2,12 @@
 
 import unittest
 
-from flipthreads.errors import Misfit
+from flipthreads.errors import InvalidPath, Misfit
 from flipthreads.loops import loop, ring
+from flipthreads.meetings import meet
+from flipthreads.paths import lay, tight
 from flipthreads.sheets import Sheet
+from flipthreads.sides import rooms, sides
 from flipthreads.splits import split
 from flipthreads.walks import word
 from flipthreads.weaves import Weave
@@ -52,6 +55,28 @@ class Examples(unittest.TestCase):
     def test_a_word(self):
         sheet = Sheet.drum(5)
         self.assertEqual(word(loop(sheet, 1)), (-8, -7, 3, -4, -5, -2))
+
+    def test_sides_and_rooms(self):
+        sheet = Sheet.drum(5)
+        found = [sides(loop(sheet, 1)), rooms(loop(sheet, 1) + loop(sheet, 2))]
+        self.assertEqual(found, [([0, 1], [2, 3, 4]), [[0, 2], [1], [3, 4]]])
+
+    def test_paths(self):
+        sheet = Sheet.drum(5)
+        path = [2, 5, 4, -3, 7, 8]
+        told = [lay(sheet, path).told(), lay(sheet, path + path).told(), lay(sheet, [1, -1]).told()]
+        self.assertEqual([tight(sheet, path)] + told, [(-3, 7, 8, 2, 5, 4), "laid", "crossed", "gone"])
+
+    def test_a_wrong_path(self):
+        with self.assertRaises(InvalidPath) as caught:
+            lay(Sheet.drum(5), [2, 4])
+        self.assertEqual(caught.exception.at, 0)
+
+    def test_meetings(self):
+        sheet = Sheet.drum(5)
+        found = meet(loop(sheet, 1), loop(sheet, 2))
+        told = [found.told(), found.stranger.counts(), meet(loop(sheet, 1), ring(sheet, 1)).apart]
+        self.assertEqual(told, ["crossing", [0, 0, 2, 1, 1, 1, 1, 1, 1], True])
 
     def test_the_repr_of_a_weave(self):
         self.assertEqual(repr(loop(Sheet.drum(5), 1) * 2), "Weave(12 crossings)")

@@ -7,7 +7,7 @@ import pathlib
 import re
 import unittest
 
-from flipthreads import errors, loops, sheets, splits, values, walks, weaves
+from flipthreads import errors, loops, meetings, paths, sheets, sides, splits, values, walks, weaves
 
 PACKAGE = pathlib.Path(errors.__file__).parent
 BUILTINS = """len range enumerate zip min max sum abs sorted reversed int str bool list tuple dict set isinstance ord
@@ -25,7 +25,18 @@ WEAVE_METHODS = """empty sheet total counts crossings arcs flipped renamed withi
 __init__ __add__ __mul__ __rmul__ __eq__ __bool__ __repr__""".split()
 FUNCTIONS = {
     values: ["is_name", "least_turn", "same_round"], loops: ["ring", "loop"], walks: ["walk", "word"],
-    splits: ["split", "threads", "is_thread"],
+    splits: ["split", "threads", "is_thread"], sides: ["sides", "is_ring", "parting", "rooms"],
+    paths: ["check_path", "tight", "can_shift", "lay"], meetings: ["meet"],
+}
+# The methods and the properties that stand in the body of each class.
+ANSWERS = {
+    paths.Laying: ("told holds __init__ __bool__ __repr__", "sheet path possible"),
+    paths.Laid: ("told holds __init__ __bool__ __repr__", "sheet path possible thread"),
+    paths.Crossed: ("told holds __init__ __bool__ __repr__", "sheet path possible"),
+    paths.Gone: ("told holds __init__ __bool__ __repr__", "sheet path possible"),
+    meetings.Meeting: ("told holds __init__ __bool__ __repr__", "one other apart"),
+    meetings.Apart: ("told holds __init__ __bool__ __repr__", "one other apart"),
+    meetings.Crossing: ("told holds __init__ __bool__ __repr__", "one other apart stranger"),
 }
 BUILTIN_METHODS = """append clear copy count endswith extend find get index insert isalnum isalpha isdigit islower
 isspace isupper items join keys ljust lower lstrip partition pop remove replace reverse rfind rjust rpartition rsplit
@@ -102,6 +113,23 @@ class Interface(unittest.TestCase):
             self.assertIsInstance(vars(weaves.Weave)[name], property)
         self.assertIsInstance(vars(weaves.Weave)["empty"], staticmethod)
 
+    def test_methods_of_answers_stand_in_the_class_itself(self):
+        for kind, (methods, properties) in ANSWERS.items():
+            self.assertIs(getattr(inspect.getmodule(kind), kind.__name__), kind)
+            for name in methods.split():
+                self.assertTrue(inspect.isfunction(vars(kind)[name]), (kind, name))
+            for name in properties.split():
+                self.assertIsInstance(vars(kind)[name], property)
+
+    def test_classes_derive_only_as_the_interface_says(self):
+        bases = {node.name: [base.id for base in node.bases] for _, tree in trees() for node in ast.walk(tree)
+                 if isinstance(node, ast.ClassDef)}
+        own = {name: found for name, found in bases.items() if found and found[0] not in dir(builtins)}
+        expected = {"Laid": "Laying", "Crossed": "Laying", "Gone": "Laying", "Apart": "Meeting", "Crossing": "Meeting"}
+        self.assertEqual({name: own[name] for name in expected}, {name: [expected[name]] for name in expected})
+        rest = {name: found for name, found in own.items() if name not in expected}
+        self.assertEqual({found[0] for found in rest.values()}, {"ThreadError", "Missing"})
+
     def test_parameters(self):
         signatures = {
             sheets.Sheet: "(triangles, *, order=())", sheets.Sheet.drum: "(nails)",
@@ -116,6 +144,12 @@ class Interface(unittest.TestCase):
             weaves.Weave.within: "(self, other)", loops.ring: "(sheet, nail)", loops.loop: "(sheet, line)",
             walks.walk: "(weave, line, at)", walks.word: "(thread)",
             splits.split: "(weave)", splits.threads: "(weave)", splits.is_thread: "(weave)",
+            sides.sides: "(thread)", sides.is_ring: "(weave)", sides.parting: "(weave, one, other)",
+            sides.rooms: "(weave)", paths.check_path: "(sheet, path)", paths.tight: "(sheet, path)",
+            paths.can_shift: "(sheet, one, other)", paths.lay: "(sheet, path)", paths.Laying: "(sheet, path)",
+            paths.Laid: "(sheet, path, thread)", paths.Crossed: "(sheet, path)", paths.Gone: "(sheet, path)",
+            meetings.Meeting: "(one, other)", meetings.Apart: "(one, other)",
+            meetings.Crossing: "(one, other, stranger)", meetings.meet: "(one, other)",
         }
         for function, expected in signatures.items():
             self.assertEqual(str(inspect.signature(function)), expected)

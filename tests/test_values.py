@@ -2,15 +2,11 @@ import itertools
 import unittest
 
 from flipthreads.values import is_name, least_turn, same_round
-from samples import NO_LISTS, NO_NUMBERS
+from samples import NO_LISTS, NO_NUMBERS, backwards
 
 
 def plain_least_turn(row):
     return min(tuple(row[k:]) + tuple(row[:k]) for k in range(len(row)))
-
-
-def backwards(row):
-    return [-item for item in reversed(row)]
 
 
 class Names(unittest.TestCase):
