@@ -1,7 +1,9 @@
-"""What plain values are, and rows that lead around."""
+"""What plain values are, how numbers are written, and rows that lead around."""
 
 LETTERS = "abcdefghijklmnopqrstuvwxyz"
 MOST_LETTERS = 8
+DIGITS = "0123456789"
+MOST_DIGITS = 30
 
 
 def is_number(value):
@@ -28,6 +30,27 @@ def is_name(value):
     if not isinstance(value, str) or value == "" or len(value) > MOST_LETTERS:
         return False
     return all([letter in LETTERS for letter in value])
+
+
+def read_number(text):
+    """Return the number that a text tells, or None if no number is written so."""
+    digits = text[1:] if text.startswith("-") else text
+    if digits == "" or len(digits) > MOST_DIGITS or not all([digit in DIGITS for digit in digits]):
+        return None
+    number = int(text)
+    # Leading zeros and -0 are written otherwise again.
+    return number if str(number) == text else None
+
+
+def read_row(text):
+    """Return the list of the numbers that a text has with commas between, or None if no numbers are written so."""
+    numbers = [read_number(part) for part in text.split(",")]
+    return None if None in numbers else numbers
+
+
+def row_text(numbers):
+    """Return the text with the numbers of a row, with commas between."""
+    return ",".join([str(number) for number in numbers])
 
 
 def least_turn(items):

@@ -53,7 +53,7 @@ class Weave:
         for at, flip in enumerate(flips):
             if not sheet.can_flip(flip):
                 raise Unflippable(at)
-            counts[abs(flip) - 1] = count_behind(sheet, counts, flip)
+            counts = counts_behind(sheet, counts, flip)
             sheet = sheet.flipped(flip)
         return Weave(sheet, counts)
 
@@ -109,7 +109,7 @@ def check_fit(triangles, counts):
 
 
 def check_same_sheet(one, other):
-    """Raise OtherSheet unless two weaves lie on equal sheets."""
+    """Raise OtherSheet unless two weaves or moves have equal sheets."""
     if one.sheet != other.sheet:
         raise OtherSheet()
 
@@ -119,7 +119,9 @@ def count_at(counts, line):
     return counts[abs(line) - 1]
 
 
-def count_behind(sheet, counts, flip):
-    """Return how often threads with these counts cross the line of a flip when it is the other diagonal."""
+def counts_behind(sheet, counts, flip):
+    """Return the list of the counts of the same threads behind a flip: its line is the other diagonal there."""
     a, b, c, d = [count_at(counts, x) for x in sheet.sides(flip)]
-    return max(a + c, b + d) - count_at(counts, flip)
+    behind = list(counts)
+    behind[abs(flip) - 1] = max(a + c, b + d) - count_at(counts, flip)
+    return behind

@@ -198,3 +198,27 @@ def joined_words(one, other):
             for a in (list(word(one)),) for b in (list(word(other)), backwards(word(other)))
             for i in range(len(a)) for k in range(len(b))
             if set(one.sheet.triangle(a[i - 1])) == set(one.sheet.triangle(b[k - 1]))]
+
+
+# Values that are no name.
+NO_NAMES = [
+    "", "A", "aB", "a1", "a b", " a", "abcdefghi", "a\n", "-", "1", 0, 1, -5, 10 ** 29, True, False, None, (), [],
+    ("a",), ["a"], [["a"]], ("a", 1), deep("a", 10),
+]
+
+# The counts of some drawings on the drum with 5 nails: the ring around nail 0 and the loops around the lines 1 and 2.
+RING = [1, 0, 1, 1, 0, 0, 1, 0, 0]
+FIRST = [0, 1, 1, 1, 1, 0, 1, 1, 0]
+SECOND = [1, 0, 1, 0, 1, 1, 0, 1, 1]
+NOTHING = [0] * 9
+
+# The path along the loop around line 1.
+AROUND = [2, 5, 4, -3, 7, 8]
+
+
+def state_of(board):
+    """All that a board tells of itself; threads are not asked."""
+    return (
+        board.sheet, board.names(), [board.weave(name).counts() for name in board.names()], board.limit, board.busy,
+        board.computed, board.kept(), board.history(), len(board),
+    )

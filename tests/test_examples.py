@@ -1,10 +1,13 @@
-"""The examples at the end of the document, as far as the package has their files."""
+"""The examples at the end of the document."""
 
 import unittest
 
-from flipthreads.errors import InvalidPath, Misfit
+from flipthreads.boards import Board
+from flipthreads.desk import Desk
+from flipthreads.errors import InvalidLimit, InvalidPath, Misfit
 from flipthreads.loops import loop, ring
 from flipthreads.meetings import meet
+from flipthreads.moves import half_turn
 from flipthreads.paths import lay, tight
 from flipthreads.sheets import Sheet
 from flipthreads.sides import rooms, sides
@@ -77,6 +80,33 @@ class Examples(unittest.TestCase):
         found = meet(loop(sheet, 1), loop(sheet, 2))
         told = [found.told(), found.stranger.counts(), meet(loop(sheet, 1), ring(sheet, 1)).apart]
         self.assertEqual(told, ["crossing", [0, 0, 2, 1, 1, 1, 1, 1, 1], True])
+
+    def test_a_half_turn(self):
+        move = half_turn(Sheet.drum(5), 1)
+        found = [move.flips(), move.renaming(), move.goals()]
+        self.assertEqual(found, [[4, 8, 3, 2], [-1, 5, -7, -3, 4, 6, 8, 2, 9], [1, 0, 2, 3, 4]])
+
+    def test_a_board(self):
+        board = Board(Sheet.drum(5))
+        board.apply(("lay", "a", (2, 5, 4, -3, 7, 8)), ("flip", 1))
+        found = [board.weave("a").counts(), len(board.threads_of("a")), board.computed, board.history()]
+        self.assertEqual(found, [[2, 1, 1, 1, 1, 0, 1, 1, 0], 1, 1, (1, 0)])
+
+    def test_a_desk(self):
+        desk = Desk(Board(Sheet.drum(5)))
+        lines = ["lay a 2,5,4,-3,7,8", "draw b 1,0,1,1,0,0,1,0,0", "apart a b", "rooms a", "flip 0", "flip"]
+        expected = ["done", "done", "yes", "0,1 2,3,4", "error InvalidLine", "unknown"]
+        self.assertEqual([desk(line) for line in lines], expected)
+
+    def test_a_limit(self):
+        board = Board(Sheet.drum(5))
+        board.limit = 3
+        self.assertEqual([board.limit, board.set_limit(5), board.limit], [3, None, 5])
+
+    def test_a_wrong_limit(self):
+        with self.assertRaises(InvalidLimit) as caught:
+            Board(Sheet.drum(5)).set_limit(0)
+        self.assertEqual(caught.exception.given, 0)
 
     def test_the_repr_of_a_weave(self):
         self.assertEqual(repr(loop(Sheet.drum(5), 1) * 2), "Weave(12 crossings)")

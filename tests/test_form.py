@@ -7,7 +7,9 @@ import pathlib
 import re
 import unittest
 
-from flipthreads import errors, loops, meetings, paths, sheets, sides, splits, values, walks, weaves
+from flipthreads import (
+    boards, desk, errors, loops, meetings, moves, pages, paths, sheets, sides, splits, values, walks, weaves,
+)
 
 PACKAGE = pathlib.Path(errors.__file__).parent
 BUILTINS = """len range enumerate zip min max sum abs sorted reversed int str bool list tuple dict set isinstance ord
@@ -19,17 +21,22 @@ namedtuple NamedTuple TypedDict TYPE_CHECKING abstractmethod""".split()
 BARRED_PARTS = ["dataclass", "overload", "contextmanager"]
 UNUSED = "register mro elements open input law version_info with_traceback add_note".split()
 SPECIAL = "__init__ __eq__ __repr__ __len__ __call__ __add__ __mul__ __rmul__ __bool__ __contains__".split()
-SHEET_METHODS = """drum nails lines is_plain triangles order triangle ends turns sides can_flip flipped renamed
-__init__ __eq__ __repr__""".split()
-WEAVE_METHODS = """empty sheet total counts crossings arcs flipped renamed within
-__init__ __add__ __mul__ __rmul__ __eq__ __bool__ __repr__""".split()
 FUNCTIONS = {
     values: ["is_name", "least_turn", "same_round"], loops: ["ring", "loop"], walks: ["walk", "word"],
     splits: ["split", "threads", "is_thread"], sides: ["sides", "is_ring", "parting", "rooms"],
-    paths: ["check_path", "tight", "can_shift", "lay"], meetings: ["meet"],
+    paths: ["check_path", "tight", "can_shift", "lay"], meetings: ["meet"], moves: ["renamings", "half_turn"],
+    pages: ["sheet_text", "read_sheet", "page", "read_page"],
 }
 # The methods and the properties that stand in the body of each class.
-ANSWERS = {
+CLASSES = {
+    sheets.Sheet: (
+        "triangles order triangle ends turns sides can_flip flipped renamed __init__ __eq__ __repr__",
+        "nails lines is_plain",
+    ),
+    weaves.Weave: (
+        "counts crossings arcs flipped renamed within __init__ __add__ __mul__ __rmul__ __eq__ __bool__ __repr__",
+        "sheet total",
+    ),
     paths.Laying: ("told holds __init__ __bool__ __repr__", "sheet path possible"),
     paths.Laid: ("told holds __init__ __bool__ __repr__", "sheet path possible thread"),
     paths.Crossed: ("told holds __init__ __bool__ __repr__", "sheet path possible"),
@@ -37,7 +44,15 @@ ANSWERS = {
     meetings.Meeting: ("told holds __init__ __bool__ __repr__", "one other apart"),
     meetings.Apart: ("told holds __init__ __bool__ __repr__", "one other apart"),
     meetings.Crossing: ("told holds __init__ __bool__ __repr__", "one other apart stranger"),
+    moves.Move: ("flips renaming act goals back then does_same parted_by is_idle __init__ __repr__", "sheet"),
+    boards.Board: (
+        """set_limit apply undo redo history names weave threads_of kept twin __init__ __contains__ __len__ __eq__
+        __repr__""", "sheet busy computed limit",
+    ),
+    desk.Desk: ("say log __init__ __call__ __len__ __repr__", "board"),
 }
+STATIC = [(sheets.Sheet, "drum"), (weaves.Weave, "empty"), (moves.Move, "idle")]
+CLASS_VALUES = [(sheets.Sheet, "MOST", 10), (boards.Board, "MOST", 20)]
 BUILTIN_METHODS = """append clear copy count endswith extend find get index insert isalnum isalpha isdigit islower
 isspace isupper items join keys ljust lower lstrip partition pop remove replace reverse rfind rjust rpartition rsplit
 rstrip setdefault split splitlines startswith strip update upper values zfill bit_length""".split()
@@ -61,6 +76,8 @@ def bound_names(tree):
             yield node.id
         elif isinstance(node, ast.Attribute):
             yield node.attr
+        elif isinstance(node, ast.ExceptHandler) and node.name:
+            yield node.name
 
 
 def top_names(tree):
@@ -100,26 +117,21 @@ class Interface(unittest.TestCase):
         self.assertEqual({getattr(errors, name).__module__ for name in found}, {"flipthreads.errors"})
 
     def test_methods_stand_in_the_class_itself(self):
-        self.assertEqual(sheets.Sheet.__module__, "flipthreads.sheets")
-        for name in SHEET_METHODS + ["MOST"]:
-            self.assertIn(name, vars(sheets.Sheet))
-        for name in ("nails", "lines", "is_plain"):
-            self.assertIsInstance(vars(sheets.Sheet)[name], property)
-        self.assertIsInstance(vars(sheets.Sheet)["drum"], staticmethod)
-        self.assertEqual(weaves.Weave.__module__, "flipthreads.weaves")
-        for name in WEAVE_METHODS:
-            self.assertIn(name, vars(weaves.Weave))
-        for name in ("sheet", "total"):
-            self.assertIsInstance(vars(weaves.Weave)[name], property)
-        self.assertIsInstance(vars(weaves.Weave)["empty"], staticmethod)
-
-    def test_methods_of_answers_stand_in_the_class_itself(self):
-        for kind, (methods, properties) in ANSWERS.items():
+        for kind, (methods, properties) in CLASSES.items():
             self.assertIs(getattr(inspect.getmodule(kind), kind.__name__), kind)
             for name in methods.split():
                 self.assertTrue(inspect.isfunction(vars(kind)[name]), (kind, name))
             for name in properties.split():
                 self.assertIsInstance(vars(kind)[name], property)
+        for kind, name in STATIC:
+            self.assertIsInstance(vars(kind)[name], staticmethod)
+        for kind, name, value in CLASS_VALUES:
+            self.assertEqual(vars(kind)[name], value)
+
+    def test_only_the_limit_can_be_assigned(self):
+        for kind, (_, properties) in CLASSES.items():
+            for name in properties.split():
+                self.assertIs(vars(kind)[name].fset is not None, name == "limit", (kind, name))
 
     def test_classes_derive_only_as_the_interface_says(self):
         bases = {node.name: [base.id for base in node.bases] for _, tree in trees() for node in ast.walk(tree)
@@ -150,6 +162,18 @@ class Interface(unittest.TestCase):
             paths.Laid: "(sheet, path, thread)", paths.Crossed: "(sheet, path)", paths.Gone: "(sheet, path)",
             meetings.Meeting: "(one, other)", meetings.Apart: "(one, other)",
             meetings.Crossing: "(one, other, stranger)", meetings.meet: "(one, other)",
+            moves.renamings: "(one, other)", moves.half_turn: "(sheet, line)",
+            moves.Move: "(sheet, flips, renaming)", moves.Move.idle: "(sheet)", moves.Move.act: "(self, weave)",
+            moves.Move.goals: "(self)", moves.Move.back: "(self)", moves.Move.parted_by: "(self, other)",
+            moves.Move.then: "(self, other)", moves.Move.does_same: "(self, other)", moves.Move.is_idle: "(self)",
+            moves.Move.flips: "(self)", moves.Move.renaming: "(self)",
+            boards.Board: "(sheet, *, limit=8)", boards.Board.set_limit: "(self, value)",
+            boards.Board.apply: "(self, *deeds)", boards.Board.undo: "(self)", boards.Board.redo: "(self)",
+            boards.Board.history: "(self)", boards.Board.names: "(self)", boards.Board.weave: "(self, name)",
+            boards.Board.threads_of: "(self, name)", boards.Board.kept: "(self)", boards.Board.twin: "(self)",
+            pages.sheet_text: "(sheet)", pages.read_sheet: "(text)", pages.page: "(board)",
+            pages.read_page: "(text)", desk.Desk: "(board)", desk.Desk.say: "(self, line)",
+            desk.Desk.__call__: "(self, line)", desk.Desk.log: "(self)",
         }
         for function, expected in signatures.items():
             self.assertEqual(str(inspect.signature(function)), expected)
@@ -287,6 +311,39 @@ class Form(unittest.TestCase):
             for node in ast.walk(tree):
                 if isinstance(node, ast.Name) and node.id in generators:
                     self.assertIn(node, called, (file, node.lineno))
+
+    def test_only_own_errors_are_caught_and_raised(self):
+        own = {name for name, value in vars(errors).items() if inspect.isclass(value)}
+        for file, tree in trees():
+            for node in ast.walk(tree):
+                if isinstance(node, ast.ExceptHandler):
+                    caught = node.type.elts if isinstance(node.type, ast.Tuple) else [node.type]
+                    self.assertLessEqual({name.id for name in caught}, own, file)
+                elif isinstance(node, ast.Raise):
+                    self.assertIn(node.exc.func.id, own, file)
+
+    def test_finally_is_plain(self):
+        for file, tree in trees():
+            for node in ast.walk(tree):
+                for row in node.finalbody if isinstance(node, ast.Try) else []:
+                    self.assertIsInstance(row, ast.Assign, file)
+                    self.assertIsInstance(row.value, ast.Constant, file)
+
+    def test_stars_stand_over_names_and_attributes(self):
+        for file, tree in trees():
+            for node in ast.walk(tree):
+                if isinstance(node, ast.Starred):
+                    self.assertIsInstance(node.value, (ast.Name, ast.Attribute), file)
+
+    def test_properties_and_operators_change_nothing(self):
+        changing = ("append", "clear", "extend", "insert", "pop", "remove", "reverse", "setdefault", "update")
+        plain = ("__init__", "__call__")
+        for row in own_methods():
+            kinds = [ast.unparse(kind) for kind in row.decorator_list]
+            if kinds == ["property"] or row.name.startswith("__") and row.name not in plain:
+                for node in ast.walk(row):
+                    self.assertNotIsInstance(node, (ast.Assign, ast.AugAssign, ast.Delete, ast.NamedExpr), row.name)
+                    self.assertNotIn(getattr(node, "attr", ""), changing, row.name)
 
     def test_no_sort_and_plain_use_of_is(self):
         for file, tree in trees():

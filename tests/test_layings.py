@@ -6,11 +6,9 @@ from flipthreads.sheets import Sheet
 from flipthreads.walks import word
 from flipthreads.weaves import Weave
 from samples import (
-    FULL_THREAD, NO_LINES, NO_LISTS, backwards, carried, deep, detours, drums, joined_words, loopable, looped,
+    AROUND, FULL_THREAD, NO_LINES, NO_LISTS, backwards, carried, deep, detours, drums, joined_words, loopable, looped,
     many_sheets, plain_threads, plain_tight, signed, some_threads, turned,
 )
-
-AROUND = [2, 5, 4, -3, 7, 8]
 
 
 def counts_of(sheet, path):

@@ -6,12 +6,9 @@ from flipthreads.paths import can_shift, check_path, lay, tight
 from flipthreads.sheets import Sheet
 from flipthreads.walks import walk, word
 from samples import (
-    NO_LINES, NO_LISTS, backwards, deep, detours, drums, joined_words, loopable, looped, many_sheets, plain_tight,
-    signed, some_threads, turned,
+    AROUND, NO_LINES, NO_LISTS, backwards, deep, detours, drums, joined_words, loopable, looped, many_sheets,
+    plain_tight, signed, some_threads, turned,
 )
-
-# A path on the drum with 5 nails: the word of the loop around line 1.
-AROUND = [2, 5, 4, -3, 7, 8]
 
 
 def refused(sheet, path):
